@@ -1,0 +1,68 @@
+"""The interface: the names exist where they are listed, with the arguments that are listed."""
+import ast
+import importlib
+import inspect
+import os
+import unittest
+
+TOP = os.path.dirname(os.path.dirname(os.path.abspath(__file__)))
+
+ERRORS = {
+    "HushError": None, "NothingToUndo": None, "InvalidName": ["name"], "TakenName": ["name"], "UnknownName": ["name"],
+    "InvalidList": ["value"], "InvalidItem": ["value"], "InvalidBook": ["value"], "InvalidLot": ["value"],
+    "InvalidRun": ["value"], "InvalidGoal": ["value"], "InvalidNumber": ["value"], "InvalidText": ["value"],
+}
+FUNCTIONS = {
+    "runs": {
+        "is_run": ["book", "lot", "value"],
+        "next_events": ["book", "lot", "run"],
+        "led": ["book", "lot", "run"],
+    },
+}
+CLASSES = {
+    "errors": {name: (arguments, {}) for name, arguments in ERRORS.items()},
+    "books": {
+        "Book": (
+            ["houses", "stands", "deeds", "hearings", "lost"],
+            {"houses": [], "stands": [], "deeds": [], "hearings": [], "lost": [], "sounds": [], "__eq__": ["other"]},
+        ),
+    },
+}
+
+
+def arguments_of(call):
+    return [name for name in inspect.signature(call).parameters if name != "self"]
+
+
+def defined_in(module):
+    """The functions and classes that are defined in a file of the package, with the classes' methods."""
+    with open(os.path.join(TOP, "hushedasks", module + ".py"), encoding="utf-8") as file:
+        body = ast.parse(file.read()).body
+    return {
+        node.name: [part.name for part in node.body if isinstance(part, ast.FunctionDef)]
+        for node in body if isinstance(node, (ast.FunctionDef, ast.ClassDef))
+    }
+
+
+class TestInterface(unittest.TestCase):
+    def test_functions(self):
+        for module, functions in FUNCTIONS.items():
+            made = importlib.import_module("hushedasks." + module)
+            for name, arguments in functions.items():
+                self.assertIn(name, defined_in(module))
+                self.assertEqual(arguments_of(getattr(made, name)), arguments, name)
+
+    def test_classes(self):
+        for module, classes in CLASSES.items():
+            made = importlib.import_module("hushedasks." + module)
+            for name, (arguments, methods) in classes.items():
+                self.assertIn(name, defined_in(module))
+                if arguments is not None:
+                    self.assertEqual(arguments_of(getattr(made, name)), arguments, name)
+                for method, parameters in methods.items():
+                    self.assertIn(method, defined_in(module)[name])
+                    self.assertEqual(arguments_of(getattr(getattr(made, name), method)), parameters, method)
+
+
+if __name__ == "__main__":
+    unittest.main()
