@@ -31,11 +31,17 @@ class Steps:
     def events(self, lot):
         """Return the list, in order, of all events that can come next in a lot."""
         found = []
-        for number, deed in enumerate(self._deeds):
-            if self._can_do(lot, deed):
-                found.extend([("deed", number, heard) for heard in self._outcomes(lot, deed)])
+        for number in range(len(self._deeds)):
+            found.extend(self.deed_events(lot, number))
         falls = [("fall", stand) for stand in sorted(self._stands) if self._many_at(lot, stand) > 0]
         return found + falls
+
+    def deed_events(self, lot, number):
+        """Return the list, in order, of all events of the deed with a number that can come next in a lot."""
+        deed = self._deeds[number]
+        if not self._can_do(lot, deed):
+            return []
+        return [("deed", number, heard) for heard in self._outcomes(lot, deed)]
 
     def allows(self, lot, event):
         """Return whether any value is an event that can come next in a lot."""

@@ -1,4 +1,6 @@
-"""Books and values that several tests share."""
+"""Books, values and checks that several tests share."""
+import unittest
+
 from hushedasks.books import Book
 from hushedasks.errors import HushError, InvalidList
 
@@ -31,6 +33,48 @@ def any_values():
         [], [0], [[]], [None], ["A"], (), (0,), ((), ()), ("idle",), ("idle", 1), {}, {"a": 1}, {1: [2]},
         HushError(), InvalidList([1]), nested(30),
     ]
+
+
+def wrong_counts():
+    """What does not stand as the counts of a lot or a goal of a book of three stands."""
+    return any_values() + [
+        mend_book(), (1, 0, 0), [1, 0], [1, 0, 0, 0], [1, 0, -1], [True, 0, 0], [1, 0, False], ["1", 0, 0],
+        [1, 0, None], [[1], 0, 0], {0: 1, 1: 0, 2: 0},
+    ]
+
+
+def wrong_lots():
+    """What is neither a lot nor a goal of `mend_book`."""
+    return any_values() + [("idle", counts) for counts in wrong_counts()] + [
+        mend_book(), ["idle", [1, 0, 0]], ("lacks", [1, 0, 0]), ("gone", [1, 0, 0]), (True, [1, 0, 0]),
+        (["idle"], [1, 0, 0]), ({}, [1, 0, 0]), (mend_book(), [1, 0, 0]), ("idle", [1, 0, 0], []), ("idle",), (),
+    ]
+
+
+class Case(unittest.TestCase):
+    """A test with some more checks."""
+
+    def same(self, given, asked):
+        """Check equality, and that no kind is another (True == 1)."""
+        self.assertEqual(repr(given), repr(asked))
+
+    def raises(self, kind, field, call, *arguments, **named):
+        """Check that a call raises just this kind of error, with this very field."""
+        with self.assertRaises(HushError) as caught:
+            call(*arguments, **named)
+        self.assertIs(type(caught.exception), kind)
+        self.assertIs(list(vars(caught.exception).values())[0], field)
+
+    def no_list_twice(self, value):
+        """Check that no list object occurs twice in a value."""
+        seen, left = [], [value]
+        while left:
+            one = left.pop()
+            if isinstance(one, list):
+                self.assertFalse([other for other in seen if other is one])
+                seen.append(one)
+            if isinstance(one, (list, tuple)):
+                left.extend(one)
 
 
 def run_example(text):

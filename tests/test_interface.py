@@ -18,6 +18,28 @@ FUNCTIONS = {
         "next_events": ["book", "lot", "run"],
         "led": ["book", "lot", "run"],
     },
+    "lots": {
+        "least_lots": ["book", "goal"],
+        "comes_to": ["book", "lot", "goal"],
+        "bar": ["book", "goal"],
+        "is_bar": ["book", "goal", "value"],
+    },
+    "numbers": {
+        "beginning": ["book", "many"],
+        "least_number": ["book", "goal"],
+        "run_to": ["book", "goal"],
+    },
+    "rows": {
+        "least_for_row": ["book", "row"],
+        "run_of_row": ["book", "row"],
+        "least_for_log": ["book", "log"],
+        "run_of_log": ["book", "log"],
+    },
+    "lacks": {
+        "alone": ["book", "house", "stand"],
+        "lasting": ["book", "well"],
+        "lack_run": ["book", "house", "stand"],
+    },
 }
 CLASSES = {
     "errors": {name: (arguments, {}) for name, arguments in ERRORS.items()},

@@ -3,9 +3,9 @@ import time
 import unittest
 
 from hushedasks.books import Book
-from hushedasks.errors import HushError, InvalidBook, InvalidLot, InvalidRun
+from hushedasks.errors import InvalidBook, InvalidLot, InvalidRun
 from hushedasks.runs import is_run, led, next_events
-from samples import any_values, mend_book, run_example
+from samples import Case, any_values, mend_book, run_example, wrong_lots
 
 EXAMPLE = """
 from hushedasks.books import Book
@@ -18,19 +18,13 @@ book = Book(["idle", "mends"], ["lacks", "waits", "has"], deeds, hearings, ["men
 """
 
 
-class RunCase(unittest.TestCase):
-    def same(self, given, asked):
-        """Check equality, and that no kind is another (True == 1)."""
-        self.assertEqual(repr(given), repr(asked))
-
-
-class TestExample(RunCase):
+class TestExample(Case):
     def test_of_the_document(self):
         given, asked = run_example(EXAMPLE)
         self.assertEqual(given, asked)
 
 
-class TestWhoHears(RunCase):
+class TestWhoHears(Case):
     def test_all_who_could_hear_do_unless_the_sound_can_be_lost(self):
         book = mend_book([])
         self.same(led(book, ("idle", [3, 0, 0]), [("deed", 0, None)]), ("mends", [0, 3, 0]))
@@ -109,7 +103,7 @@ class TestWhoHears(RunCase):
         self.assertFalse(is_run(book, lot, [("deed", 1, (0, 0, 0))]))
 
 
-class TestNextEvents(RunCase):
+class TestNextEvents(Case):
     def test_in_order_of_numbers_and_of_names(self):
         book = Book(["home"], ["d", "c", "b", "a"], [("home", None, "home")] * 10, [], [])
         self.same(next_events(book, ("home", [1, 1, 1, 1]), []),
@@ -149,7 +143,7 @@ class TestNextEvents(RunCase):
                 self.assertEqual([type(many) for many in event[2]], [int] * 4)
 
 
-class TestFalls(RunCase):
+class TestFalls(Case):
     def test_one_listener_is_gone(self):
         book = mend_book()
         self.same(led(book, ("mends", [1, 2, 3]), [("fall", "waits")]), ("mends", [1, 1, 3]))
@@ -162,7 +156,7 @@ class TestFalls(RunCase):
         self.assertIs(is_run(book, ("idle", [1, 0, 0]), [("fall", "lacks"), ("fall", "lacks")]), False)
 
 
-class TestIsRun(RunCase):
+class TestIsRun(Case):
     LOT = ("idle", [2, 0, 0])
 
     def test_runs(self):
@@ -243,23 +237,8 @@ class TestIsRun(RunCase):
                 self.assertIs(is_run(book, self.LOT, within), can_be and not isinstance(value, bool))
 
 
-class TestErrors(RunCase):
+class TestErrors(Case):
     LOT = ("idle", [1, 0, 0])
-
-    def raises(self, kind, field, call, *arguments, **named):
-        with self.assertRaises(HushError) as caught:
-            call(*arguments, **named)
-        self.assertIs(type(caught.exception), kind)
-        self.assertIs(caught.exception.value, field)
-
-    def wrong_lots(self):
-        return any_values() + [
-            mend_book(), ["idle", [1, 0, 0]], ("idle", (1, 0, 0)), ("idle", [1, 0]), ("idle", [1, 0, 0, 0]),
-            ("idle", []), ("idle", [1, 0, -1]), ("idle", [True, 0, 0]), ("idle", [1, 0, False]), ("idle", ["1", 0, 0]),
-            ("idle", [1, 0, None]), ("idle", [[1], 0, 0]), ("idle", None), ("lacks", [1, 0, 0]), ("gone", [1, 0, 0]),
-            (None, [1, 0, 0]), (["idle"], [1, 0, 0]), ({}, [1, 0, 0]), ("idle", [1, 0, 0], []), ("idle",), (),
-            ("idle", {0: 1, 1: 0, 2: 0}), (mend_book(), [1, 0, 0]),
-        ]
 
     def test_books(self):
         for call in (is_run, next_events, led):
@@ -270,7 +249,7 @@ class TestErrors(RunCase):
     def test_lots(self):
         book = mend_book()
         for call in (is_run, next_events, led):
-            for value in self.wrong_lots():
+            for value in wrong_lots() + [(None, [1, 0, 0])]:
                 self.raises(InvalidLot, value, call, book, value, [])
                 self.raises(InvalidLot, value, call, book, value, None)
 
@@ -288,7 +267,7 @@ class TestErrors(RunCase):
         self.assertEqual((lot, run), (("idle", [1, 0, 0]), [("deed", 0, None), ("deed", 0, None)]))
 
 
-class TestArguments(RunCase):
+class TestArguments(Case):
     def test_by_name(self):
         book, lot, run = mend_book(), ("idle", [1, 0, 0]), [("fall", "lacks")]
         self.assertIs(is_run(value=run, lot=lot, book=book), True)
@@ -318,7 +297,7 @@ class TestArguments(RunCase):
         self.same(led(book, lot, [("deed", 1, (0, 0, 1, 0))]), ("idle", [0, 2, 1]))
 
 
-class TestLimits(RunCase):
+class TestLimits(Case):
     def test_a_long_run_and_a_lot_with_many_listeners(self):
         stands = ["a", "b", "c", "d"]
         hearings = [(stand, sound, stands[(at + step) % 4]) for at, stand in enumerate(stands)
