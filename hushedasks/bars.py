@@ -5,7 +5,10 @@ from hushedasks.ways import Ways
 
 
 def keep_least(cover, codes):
-    """Keep those of some packed lots, fewest listeners first, that are at least no other; return their list."""
+    """Keep those of some packed lots, fewest listeners first, that are at least no other; return their list.
+
+    The others say nothing, and might be great.
+    """
     kept = []
     for code in codes:
         if not cover.covers(code):

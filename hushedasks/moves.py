@@ -2,19 +2,22 @@
 
 
 def spread(many, units):
-    """Return the list of all sums of so many units, each one of these."""
+    """Return the list of all sums of so many units, at least one, each of them one of these."""
     if len(units) == 0:
-        return [0] if many == 0 else []
+        return []
     if len(units) == 1:
         return [many * units[0]]
     return [first * units[0] + rest for first in range(many + 1) for rest in spread(many - first, units[1:])]
 
 
 def spread_all(lots, counts, units):
-    """Return the list of all lots that come out if so many listeners are put to each of these with their units."""
-    for many, places in zip(counts, units):
+    """Return the list of all lots that come out if as many units as each count tells are put to the lots.
+
+    For each count there is a list of the units that may be taken.
+    """
+    for many, kinds in zip(counts, units):
         if many > 0:
-            shares = spread(many, places)
+            shares = spread(many, kinds)
             lots = [lot + share for lot in lots for share in shares]
     return lots
 
@@ -41,9 +44,9 @@ def less_one(counts, at):
 class Move:
     """A deed of a book as it moves packed lots.
 
-    `spots` tells for each spot to which spots it goes, `stands` for each stand to which stands those go who
-    stand there (but for the one whose deed it is), `own` from which stand to which that one goes, and is
-    None for a deed of the house.
+    `spots` tells, for each spot, the list of the spots that can come next, `stands`, for each stand, that of
+    the stands to which those who stand there can go (but for the one whose deed it is), and `own` from which
+    stand to which that one goes; it is None for a deed of the house.
     """
 
     def __init__(self, packing, spots, stands, own):

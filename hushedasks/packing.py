@@ -9,7 +9,6 @@ class Packing:
     """
 
     def __init__(self, stands, room):
-        self._room = room
         self._shifts = [room * at for at in range(stands)]
         self._spot_shift = room * stands
         self._most = (1 << room) - 1

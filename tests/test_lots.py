@@ -277,6 +277,12 @@ class TestBars(Case):
         book, goal = still_book(["g", "h"]), ("h", [0, 1])
         self.assertIs(is_bar(book, goal, [("h", [0, 1]), ("g", [many, 1])]), True)
         self.assertIs(is_bar(book, goal, [("h", [0, many])]), False)
+        # What is at least another one says nothing, however great it is.
+        book, goal = mend_book(), ("mends", [0, 1, 1])
+        lots = least_lots(book, goal)
+        for great in (("mends", [many, many, many]), ("idle", [1, many, many])):
+            self.assertIs(is_bar(book, goal, [great] + lots), True)
+            self.assertIs(is_bar(book, goal, lots[1:] + [great]), False)
 
 
 class TestErrors(Case):
