@@ -3,6 +3,9 @@
 from hushedasks.errors import InvalidBook, InvalidItem, InvalidList
 from hushedasks.values import is_name
 
+MOST_DEEDS = 10
+MOST_HEARINGS = 12
+
 
 def check_many(value, least, most):
     """Raise InvalidList unless a value is a list of so many items."""
@@ -59,9 +62,9 @@ class Book:
         check_names(houses, [])
         check_many(stands, 1, 4)
         check_names(stands, houses)
-        check_many(deeds, 0, 10)
+        check_many(deeds, 0, MOST_DEEDS)
         check_deeds(houses, stands, deeds)
-        check_many(hearings, 0, 12)
+        check_many(hearings, 0, MOST_HEARINGS)
         check_hearings(houses, stands, hearings)
         check_many(lost, 0, 4)
         check_names(lost, [])

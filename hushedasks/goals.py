@@ -1,4 +1,4 @@
-"""Goals of a book: whether a value is one, and whether a lot is at least one."""
+"""Goals of a book: whether a value is one."""
 
 from hushedasks.errors import InvalidGoal
 from hushedasks.runs import is_counts

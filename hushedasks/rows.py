@@ -16,29 +16,39 @@ def check_sounds(value, least, most):
             raise InvalidItem(item)
 
 
+def check_row(value):
+    """Raise InvalidList or InvalidItem unless a value is a row."""
+    check_sounds(value, 1, 3)
+
+
+def check_log(value):
+    """Raise InvalidList or InvalidItem unless a value is a log."""
+    check_sounds(value, 0, 3)
+
+
 def least_for_row(book, row):
     """Return the least number of listeners with which a run from the beginning bears a row, or None."""
     check_book(book)
-    check_sounds(row, 1, 3)
+    check_row(row)
     return least_many(row_quest(book, row))
 
 
 def run_of_row(book, row):
     """Return a run from the beginning with the least number that bears a row, as short as can be, or None."""
     check_book(book)
-    check_sounds(row, 1, 3)
+    check_row(row)
     return run_from_beginning(row_quest(book, row))
 
 
 def least_for_log(book, log):
     """Return the least number of listeners with which a run from the beginning keeps a log, or None."""
     check_book(book)
-    check_sounds(log, 0, 3)
+    check_log(log)
     return least_many(log_quest(book, log))
 
 
 def run_of_log(book, log):
     """Return a run from the beginning with the least number that keeps a log, as short as can be, or None."""
     check_book(book)
-    check_sounds(log, 0, 3)
+    check_log(log)
     return run_from_beginning(log_quest(book, log))

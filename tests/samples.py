@@ -3,6 +3,8 @@ import unittest
 
 from hushedasks.books import Book
 from hushedasks.errors import HushError, InvalidList
+from hushedasks.library import Library
+from hushedasks.live import Live
 
 DEEDS = [("lacks", "ask", "waits"), ("mends", "mend", "idle")]
 HEARINGS = [
@@ -31,7 +33,7 @@ def any_values():
     return [
         None, True, False, 0, 1, -1, 10 ** 30, "", "A", "no name", "toolongname", "\u00e4",
         [], [0], [[]], [None], ["A"], (), (0,), ((), ()), ("idle",), ("idle", 1), {}, {"a": 1}, {1: [2]},
-        HushError(), InvalidList([1]), nested(30),
+        HushError(), InvalidList([1]), nested(30), Live(mend_book()), Library(),
     ]
 
 
@@ -64,6 +66,13 @@ class Case(unittest.TestCase):
             call(*arguments, **named)
         self.assertIs(type(caught.exception), kind)
         self.assertIs(list(vars(caught.exception).values())[0], field)
+
+    def made_of_plain_kinds(self, value):
+        """Check that a value is made of what may be returned, of just these kinds."""
+        self.assertIn(type(value), (type(None), bool, int, str, list, tuple, Book, Live, Library))
+        if isinstance(value, (list, tuple)):
+            for item in value:
+                self.made_of_plain_kinds(item)
 
     def no_list_twice(self, value):
         """Check that no list object occurs twice in a value."""

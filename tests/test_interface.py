@@ -3,6 +3,7 @@ import ast
 import importlib
 import inspect
 import os
+import re
 import unittest
 
 TOP = os.path.dirname(os.path.dirname(os.path.abspath(__file__)))
@@ -40,6 +41,17 @@ FUNCTIONS = {
         "lasting": ["book", "well"],
         "lack_run": ["book", "house", "stand"],
     },
+    "tables": {
+        "table": ["book"],
+        "first_unlike": ["book", "other"],
+        "beyond": ["book", "other"],
+        "without": ["book", "entry"],
+        "spare": ["book"],
+    },
+    "texts": {
+        "text_of": ["book"],
+        "read_book": ["text"],
+    },
 }
 CLASSES = {
     "errors": {name: (arguments, {}) for name, arguments in ERRORS.items()},
@@ -47,6 +59,21 @@ CLASSES = {
         "Book": (
             ["houses", "stands", "deeds", "hearings", "lost"],
             {"houses": [], "stands": [], "deeds": [], "hearings": [], "lost": [], "sounds": [], "__eq__": ["other"]},
+        ),
+    },
+    "live": {
+        "Live": (
+            ["book"],
+            {"add": ["deed"], "hear": ["hearing"], "leave": ["entry"], "shown": [], "least_number": ["goal"],
+             "lasting": ["well"], "back": [], "log": [], "copy": [], "__eq__": ["other"]},
+        ),
+    },
+    "library": {
+        "Library": (
+            [],
+            {"put": ["name", "book"], "drop": ["name"], "change": ["name", "book"], "book_of": ["name"], "names": [],
+             "alike": ["book"], "bearing": ["row"], "back": [], "log": [], "copy": [], "__len__": [],
+             "__contains__": ["name"], "__iter__": [], "__eq__": ["other"]},
         ),
     },
 }
@@ -66,7 +93,33 @@ def defined_in(module):
     }
 
 
+def rows_of_document():
+    """The names of each module as the document's table lists them, if the document is there."""
+    path = os.path.join(TOP, "..", "shared", "DOC.md")
+    if not os.path.exists(path):
+        return None
+    with open(path, encoding="utf-8") as file:
+        text = file.read().split("# The interface\n")[1]
+    return dict(re.findall(r"^\| `hushedasks\.(\w+)` \| (.*) \|$", text, re.MULTILINE))
+
+
 class TestInterface(unittest.TestCase):
+    def test_the_document_lists_just_these(self):
+        rows = rows_of_document()
+        if rows is None:
+            self.skipTest("the document is not here")
+        self.assertEqual(set(rows), set(FUNCTIONS) | set(CLASSES))
+        for module, functions in FUNCTIONS.items():
+            told = {name + "(" + ", ".join(arguments) + ")" for name, arguments in functions.items()}
+            self.assertEqual(set(re.findall(r"`([^`]*)`", rows[module])), told)
+        self.assertEqual(set(re.findall(r"`([^`]*)`", rows["errors"])), set(ERRORS))
+        signs = {"__eq__": "==", "__len__": "len(..)", "__contains__": "in", "__iter__": "for"}
+        for module in ("books", "live", "library"):
+            (name, (arguments, methods)), = CLASSES[module].items()
+            told = {signs.get(method, method + "(" + ", ".join(taken) + ")") for method, taken in methods.items()}
+            told.add(name + "(" + ", ".join(arguments) + ")")
+            self.assertEqual(set(re.findall(r"`([^`]*)`", rows[module])), told)
+
     def test_functions(self):
         for module, functions in FUNCTIONS.items():
             made = importlib.import_module("hushedasks." + module)

@@ -153,6 +153,10 @@ class File:
             self.say("L6/L7", node)
         if isinstance(node, ast.FunctionDef):
             self.check_function(node)
+            self.check_operator(node)
+        if isinstance(node, ast.Try) and (len(node.body) != 1 or node.finalbody or node.orelse):
+            # Allowed in more forms, none of which is needed here.
+            self.say("L6/L19", node)
         if isinstance(node, ast.ClassDef) and (node.decorator_list or node.keywords):
             self.say("L5", node)
         if isinstance(node, ast.Name) and isinstance(node.ctx, ast.Load):
@@ -199,8 +203,27 @@ class File:
             if not looped and name_of(above) not in EATERS:
                 self.say("L23", node)
         if name_of(node) in ("bytes", "map", "iter", "next", "getattr", "hasattr", "setattr", "pow"):
-            # Allowed in a few forms only, which this check does not tell apart.
-            self.say("L7/L8", node)
+            # Allowed in a few forms only, which this check does not tell apart, but for the one of an `__iter__`.
+            if not self.is_iteration(node):
+                self.say("L7/L8", node)
+
+    def is_iteration(self, node):
+        """Whether a call is the `iter` of an attribute that is the one statement of an `__iter__`."""
+        above = self.parents[self.parents[node]]
+        return (
+            name_of(node) == "iter" and len(node.args) == 1 and isinstance(node.args[0], ast.Attribute)
+            and isinstance(self.parents[node], ast.Return)
+            and isinstance(above, ast.FunctionDef) and above.name == "__iter__" and len(above.body) == 1
+        )
+
+    def check_operator(self, node):
+        """Operators change nothing: here, none of them assigns anything, or does more than to return."""
+        if node.name == "__init__" or not node.name.startswith("__"):
+            return
+        rows = [row for row in node.body
+                if not (isinstance(row, ast.Expr) and isinstance(row.value, ast.Constant))]
+        if len(rows) != 1 or not isinstance(rows[0], ast.Return):
+            self.say("L5/L28", node)
 
     def check_generator(self, node):
         # Books compare, so even any, all, sum, min, max and sorted take a list.
@@ -276,6 +299,15 @@ class TestPackage(unittest.TestCase):
                     for alias in node.names:
                         self.assertIn(alias.name, defined, "L16")
 
+    def test_no_two_files_import_from_each_other(self):
+        left = {name: {node.module.split(".")[1] + ".py" for node in ast.parse(source).body
+                       if isinstance(node, ast.ImportFrom) and node.module.startswith(PACKAGE + ".")}
+                for name, source in sources().items()}
+        while left:
+            ends = {name for name, others in left.items() if not others & set(left)}
+            self.assertTrue(ends, "L16")
+            left = {name: others for name, others in left.items() if name not in ends}
+
     def test_no_name_is_a_method_and_an_attribute_of_one_class(self):
         for source in sources().values():
             for top in ast.walk(ast.parse(source)):
@@ -307,6 +339,10 @@ class TestTheChecks(unittest.TestCase):
             ("L17", "X = \"type\"\n"),
             ("L19", "def f():\n    try:\n        pass\n    except Exception:\n        pass\n"),
             ("L20", "def f(x, y):\n    return x is y\n"),
+            ("L5/L28", "class C:\n    def __contains__(self, x):\n        self.n = 1\n        return x == 1\n"),
+            ("L6/L19", "def f():\n    try:\n        pass\n    finally:\n        pass\n"),
+            ("L7/L8", "def f(x):\n    return iter(x.rows)\n"),
+            ("L7/L8", "class C:\n    def __iter__(self):\n        return iter([1])\n"),
             ("L23", "def f(x):\n    y = zip(x, x)\n    return y\n"),
             ("L24", "def f(x):\n    return set(x)\n"),
             ("L25", "def f(x):\n    return x.format(1)\n"),
@@ -322,6 +358,7 @@ class TestTheChecks(unittest.TestCase):
             "def f(x, y=3):\n    return [k for k, _ in enumerate(x) if k is not None and k in {1, y}]\n"
         )
         self.assertEqual(found_in(text), [])
+        self.assertEqual(found_in("class C:\n    def __iter__(self):\n        return iter(self.rows)\n"), [])
         self.assertEqual(found_in("def f(box):\n    box.shown()\n    return sorted({k for k in box})\n"), [])
 
 

@@ -1,13 +1,22 @@
-"""[3]: up to the limits, within seconds: hundreds of least lots, least numbers of 10, lots of 12 listeners."""
+"""Up to the limits, within seconds.
+
+[3]: hundreds of least lots, least numbers of 10, lots of 12 listeners. [40], [66], [71] and [75]: tables and spare
+entries of two houses and three stands, 200 steps of live books and of libraries, texts of 3,000 signs, 8 books.
+"""
 import time
 import unittest
 
 from hushedasks.books import Book
+from hushedasks.errors import InvalidText
 from hushedasks.lacks import alone, lack_run, lasting
+from hushedasks.library import Library
+from hushedasks.live import Live
 from hushedasks.lots import bar, comes_to, is_bar, least_lots
 from hushedasks.numbers import beginning, least_number, run_to
 from hushedasks.rows import least_for_log, least_for_row, run_of_log, run_of_row
 from hushedasks.runs import is_run, led
+from hushedasks.tables import beyond, first_unlike, spare, table, without
+from hushedasks.texts import read_book, text_of
 from samples import Case
 
 SECONDS = 10
@@ -32,6 +41,16 @@ ROW = (
     ["sa x sb", "sa y sc", "sc z sa", "sa z sc", "sb x sd", "sc u sd", "sa u sd", "hc z hb", "sb y sa", "sd z sc",
      "sb z sc", "hb z hc"],
     ["y"],
+)
+
+# A book of two houses and three stands that was sought for small goals with many great least lots.
+SMALL = Book(
+    ["ha", "hb"], ["sb", "sc", "sa"],
+    [("sb", "w", "sb"), ("sa", "z", "sb"), ("sa", "w", "sb"), ("sc", "w", "sb"), ("sa", "w", "sb"), ("sc", "x", "sb"),
+     ("hb", "y", "hb"), ("sc", "z", "sb"), ("sa", "y", "sb"), ("sa", None, "sb")],
+    [("hb", "w", "hb"), ("sb", "y", "sb"), ("sa", "x", "sb"), ("sb", "w", "sc"), ("hb", "x", "hb"), ("ha", "w", "hb"),
+     ("sa", "z", "sc"), ("sa", "y", "sb"), ("sc", "x", "sa"), ("sa", "w", "sc"), ("hb", "y", "ha"), ("sc", "y", "sc")],
+    ["z"],
 )
 
 
@@ -135,6 +154,82 @@ class TestLimits(Case):
             said = "w" not in sounds
             self.same(least_for_row(book, sounds), {"x": 1, "z": 0}[sounds[0]] if said else None)
             self.assertIs(run_of_log(book, sounds) is None, not said or sounds[0] == "z")
+
+    def test_tables_and_spare_entries(self):
+        rows = table(SMALL)
+        self.assertEqual(len(rows), 18)
+        self.assertEqual(max(number or 0 for _, _, number in rows), 8)
+        found = spare(SMALL)
+        self.assertLessEqual({("hearing", 1), ("hearing", 4)}, set(found))
+        for entry in [("deed", at) for at in range(10)] + [("hearing", at) for at in range(12)] + [("lost", "z")]:
+            later = without(SMALL, entry)
+            self.assertIs(entry in found, first_unlike(SMALL, later) is None)
+            if entry in found:
+                self.assertIsNone(beyond(SMALL, later))
+                self.assertIsNone(beyond(later, SMALL))
+        # Beyond the limits, too, it ends soon.
+        self.assertEqual(len(table(book_of(TEN, "ha", "sa"))), 42)
+
+    def test_two_hundred_steps_of_a_live_book(self):
+        live = Live(without(SMALL, ("deed", 9)))
+        books = [live.shown()]
+        for step in range(66):
+            live.add(("sa", "xyz"[step % 3], "sb"))
+            books.append(live.shown())
+            live.leave(("deed", step % 10))
+            books.append(live.shown())
+        self.assertEqual(len(live.log()), 132)
+        other = live.copy()
+        for at in range(68):
+            self.assertTrue(live.shown() == books[132 - at])
+            self.same(live.least_number(("hb", [1, 0, 0])), least_number(books[132 - at], ("hb", [1, 0, 0])))
+            self.same(live.lasting(["sa"]), lasting(books[132 - at], ["sa"]))
+            live.back()
+        self.assertEqual(live.log(), other.log()[:64])
+        self.assertTrue(other.shown() == books[132])
+
+    def test_texts_of_three_thousand_signs(self):
+        text = text_of(SMALL)
+        for more in (" ", "\n", " \n"):
+            long = more * 50 + text.replace("\n", (more + "\n") * 10).replace(" ", " " * 4) + more * 50
+            long = long + " " * (3000 - len(long))
+            self.assertGreaterEqual(len(long), 3000)
+            self.assertTrue(read_book(long) == SMALL)
+        for long in (" " * 3000, "\n" * 3000, "deed " * 600, "houses a\n" * 333, "a" * 3000, text + "\ndeed a x b" * 200):
+            self.raises(InvalidText, long, read_book, long)
+
+    def test_two_hundred_steps_of_a_library_of_eight_books(self):
+        library = Library()
+        names = ["b" + letter for letter in "hgfedcba"]
+        for at, name in enumerate(names):
+            library.put(name, without(SMALL, ("deed", at)))
+        whole = library.copy()
+        for step in range(124):
+            name = names[step % 8]
+            if step % 16 < 8:
+                library.change(name, SMALL)
+            else:
+                library.change(name, whole.book_of(name))
+        self.same(library.alike(SMALL), sorted(
+            name for name in names if first_unlike(library.book_of(name), SMALL) is None
+        ))
+        for row in (["w", "z", "y"], ["x", "x", "x"], ["y"]):
+            self.same(library.bearing(row), sorted(
+                name for name in names if least_for_row(library.book_of(name), row) is not None
+            ))
+        for _ in range(68):
+            library.back()
+        self.assertEqual(len(library.log()), 64)
+        self.assertEqual((len(library), list(library)), (8, sorted(names)))
+
+    def test_rows_of_eight_great_books(self):
+        library = Library()
+        for at, parts in enumerate((TEN, BARRED, ROW, TEN, BARRED, ROW, TEN, BARRED)):
+            library.put("abcdefgh"[at], book_of(parts, HOUSES[at % 3], STANDS[at % 4]))
+        for row in (["z", "u", "z"], ["y", "y", "y"], ["x", "w", "x"]):
+            self.same(library.bearing(row), [
+                name for name in library if least_for_row(library.book_of(name), row) is not None
+            ])
 
 
 if __name__ == "__main__":
